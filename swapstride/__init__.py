@@ -1,0 +1,1 @@
+"""Swapstride: one machine made into another while it runs."""
