@@ -20,12 +20,17 @@ def look_names(kind, sizes):
     parts = kind[2]
     if name in sizes:
         raise Twice(f"two kinds {name}")
-    if len(set([part[0] for part in parts])) < len(parts):
-        raise Twice(f"two parts of one name in the kind {name}")
+    need_once([part[0] for part in parts], f"parts of the kind {name}")
     for part in parts:
         other = part[1]
         if other not in sizes:
             raise NoName(f"no kind {other} ahead of the kind {name}")
+
+
+def need_once(names, things):
+    """Refuse names of things of which one stands for a second time."""
+    if len(set(names)) < len(names):
+        raise Twice(f"two {things} of one name")
 
 
 def looked_size(kind, sizes):
@@ -68,3 +73,9 @@ def parts_of(kinds, K):
         if name == K:
             return parts
     return ()
+
+
+def need_there(kinds, kind):
+    """Refuse what is neither num nor a kind."""
+    if kind != "num" and sort_of(kinds, kind) is None:
+        raise NoName(f"no kind {kind}")

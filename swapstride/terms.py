@@ -1,7 +1,7 @@
 """Terms looked at: their kinds, the boxes that they need, noughts as terms."""
 
 from swapstride.errors import Lacks, NoCount, NoName, Twice, WrongKind
-from swapstride.kinds import parts_of, sort_of
+from swapstride.kinds import need_once, parts_of, sort_of
 from swapstride.words import WIDE
 
 
@@ -142,8 +142,7 @@ def need_tags(kinds, kind, arms):
     for tag in tags:
         if tag not in own:
             raise NoName(f"no tag {tag} in the kind {kind}")
-    if len(set(tags)) < len(tags):
-        raise Twice(f"two arms of one tag of the kind {kind}")
+    need_once(tags, f"arms in a case of the kind {kind}")
     if len(tags) < len(own):
         raise Lacks(f"no arm for some tag of the kind {kind}")
 

@@ -36,6 +36,12 @@ EXPRESSIONS = (
     ast.Constant, ast.List, ast.Tuple, ast.Dict, ast.Set, ast.BinOp, ast.UnaryOp, ast.BoolOp, ast.Compare, ast.IfExp,
     ast.Call, ast.Attribute, ast.Subscript, ast.Slice, ast.ListComp, ast.JoinedStr, ast.FormattedValue, ast.Name,
     ast.Lambda)
+# What is walked on the spot, and the names within which it may be walked; keywords of Python's own names.
+WALKED = {"zip", "enumerate", "reversed", "range"}
+WALKED_METHODS = {"items", "keys", "values"}
+WALKERS = {"list", "tuple", "dict", "sorted", "sum", "any", "all", "enumerate", "zip"}
+KEYWORDS = {"sorted": {"key", "reverse"}, "min": {"key", "default"}, "max": {"key", "default"}, "sum": {"start"},
+            "enumerate": {"start"}, "zip": {"strict"}}
 PYTHONS_METHODS = {name for own in (str, int, list, tuple, dict, set, frozenset, bytes) for name in dir(own)}
 
 
@@ -52,7 +58,7 @@ def plain_file_name(name):
 def findings(text):
     """All findings in the text of a file other than __main__.py."""
     tree = ast.parse(text)
-    found = in_signs(text) + in_top(tree)
+    found = in_signs(text) + in_top(tree) + in_bindings(tree) + in_walks(tree)
     for node in ast.walk(tree):
         found += in_statement(node) + in_expression(node) + in_name(node)
         if isinstance(node, (ast.FunctionDef, ast.ClassDef)):
@@ -128,6 +134,66 @@ def in_definition(node):
             if not isinstance(each, ast.FunctionDef) and not is_docstring(each):
                 found.append(("L5", each.lineno))
     return found
+
+
+def in_bindings(tree):
+    """Parameters and locals that are called like a class or an import of the file [L15]."""
+    taken = {node.name for node in tree.body if isinstance(node, ast.ClassDef)}
+    for node in tree.body:
+        if isinstance(node, ast.ImportFrom):
+            taken |= {alias.asname or alias.name for alias in node.names}
+    found = []
+    for node in ast.walk(tree):
+        if isinstance(node, ast.arg) and node.arg in taken:
+            found.append(("L15", node.lineno))
+        if isinstance(node, ast.Name) and isinstance(node.ctx, ast.Store) and node.id in taken:
+            found.append(("L15", node.lineno))
+    return found
+
+
+def in_walks(tree):
+    """What is kept instead of being walked or asked on the spot, and keywords of Python's own [L22, L23, L24]."""
+    parents = {child: parent for parent in ast.walk(tree) for child in ast.iter_child_nodes(parent)}
+    found = []
+    for node in ast.walk(tree):
+        if isinstance(node, ast.Call):
+            name = node.func.id if isinstance(node.func, ast.Name) else None
+            method = node.func.attr if isinstance(node.func, ast.Attribute) else None
+            if (name in WALKED or method in WALKED_METHODS) and not is_walked(node, parents[node]):
+                found.append(("L23", node.lineno))
+            if name in ("set", "frozenset") and not is_asked(node, parents):
+                found.append(("L24", node.lineno))
+            if {keyword.arg for keyword in node.keywords} - KEYWORDS.get(name, set()) and hasattr(builtins, name or ""):
+                found.append(("L22", node.lineno))
+            if node.keywords and method in METHODS:
+                found.append(("L22", node.lineno))
+        if isinstance(node, ast.Attribute) and node.attr in METHODS and not is_called(node, parents[node]):
+            found.append(("L25", node.lineno))
+    return found
+
+
+def is_called(node, parent):
+    return isinstance(node.ctx, ast.Store) or isinstance(parent, ast.Call) and parent.func is node
+
+
+def is_walked(node, parent):
+    if isinstance(parent, (ast.For, ast.comprehension)):
+        return parent.iter is node
+    if not isinstance(parent, ast.Call) or not parent.args or parent.args[0] is not node:
+        return isinstance(parent, ast.Call) and isinstance(parent.func, ast.Name) and parent.func.id == "zip"
+    if isinstance(parent.func, ast.Name):
+        return parent.func.id in WALKERS or parent.func.id in ("min", "max") and len(parent.args) == 1
+    return parent.func.attr == "join" and isinstance(parent.func.value, ast.Constant)
+
+
+def is_asked(node, parents):
+    parent = parents[node]
+    while isinstance(parent, ast.BinOp):
+        parent = parents[parent]
+    if isinstance(parent, ast.Compare):
+        return isinstance(parent.ops[0], (ast.In, ast.NotIn, ast.Eq, ast.NotEq))
+    return (isinstance(parent, ast.Call) and isinstance(parent.func, ast.Name) and parent.func.id in ("sorted", "len")
+            and not parent.keywords)
 
 
 def in_statement(node):
@@ -226,3 +292,15 @@ def defined_in(text):
         elif isinstance(node, ast.Assign):
             defined += [target.id for target in node.targets]
     return defined
+
+
+def methods_and_values(text):
+    """The names of all methods of a file's classes, and of all values that it gives to objects."""
+    methods = set()
+    kept = set()
+    for node in ast.walk(ast.parse(text)):
+        if isinstance(node, ast.ClassDef):
+            methods |= {each.name for each in node.body if isinstance(each, ast.FunctionDef)}
+        if isinstance(node, ast.Attribute) and isinstance(node.ctx, ast.Store):
+            kept.add(node.attr)
+    return methods, kept

@@ -3,7 +3,7 @@
 import pathlib
 import unittest
 
-from tests.form import PACKAGE, defined_in, drawn_from, findings, plain_file_name
+from tests.form import PACKAGE, defined_in, drawn_from, findings, methods_and_values, plain_file_name
 
 FOLDER = pathlib.Path(__file__).resolve().parent.parent / PACKAGE
 FILES = {path.stem: path.read_text(encoding="utf-8") for path in sorted(FOLDER.glob("*.py"))}
@@ -56,6 +56,20 @@ BAD = [
     ("def f(a: int):\n    return a\n", "L21"),
     ("def f(a):\n    return a.sort()\n", "L25"),
     ("def f(a):\n    return a.title()\n", "L25"),
+    ("from swapstride.words import is_name\ndef f(is_name):\n    pass\n", "L15"),
+    ("from swapstride.words import is_name\ndef f(a):\n    is_name = a\n", "L15"),
+    ("class A:\n    pass\ndef f(a):\n    return [A for A in a]\n", "L15"),
+    ("def f(a):\n    return sorted(a, cmp=a)\n", "L22"),
+    ("def f(a):\n    return a.split(sep=a)\n", "L22"),
+    ("def f(a):\n    b = zip(a, a)\n", "L23"),
+    ("def f(a):\n    return range(a)\n", "L23"),
+    ("def f(a):\n    return a.items()\n", "L23"),
+    ("def f(a):\n    return len(a.keys())\n", "L23"),
+    ("def f(a):\n    b = set(a)\n", "L24"),
+    ("def f(a):\n    for b in set(a):\n        pass\n", "L24"),
+    ("def f(a):\n    return list(set(a))\n", "L24"),
+    ("def f(a):\n    return [b for b in set(a) | set(a)]\n", "L24"),
+    ("def f(a):\n    return a.append\n", "L25"),
     ("A = '%'\n", "L27"),
     ("A = '\\x41'\n", "L27"),
     ("def f(a):\n    return 2 ** a\n", "L27"),
@@ -85,6 +99,11 @@ class Form(unittest.TestCase):
             free = [stem for stem, sources in left.items() if not any(source in left for source in sources)]
             self.assertNotEqual(free, [], f"a ring among {sorted(left)}")
             left = {stem: sources for stem, sources in left.items() if stem not in free}
+
+    def test_no_name_is_a_method_here_and_a_value_there(self):
+        pairs = [methods_and_values(text) for text in FILES.values()]
+        methods = {name for each, _ in pairs for name in each}
+        self.assertEqual(sorted(name for _, kept in pairs for name in kept if name in methods), [])
 
     def test_the_init_file_binds_no_name_of_a_file(self):
         self.assertEqual([name for name in defined_in(FILES["__init__"]) if name in FILES], [])
