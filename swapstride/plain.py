@@ -1,17 +1,15 @@
 """A house of one make: its hands beside one another, and the letters between them."""
 
-from swapstride.strides import begin_of, done, first_letter, own_lists, own_stand, row_at, stride
+from swapstride.houses import House
+from swapstride.strides import done, first_letter, own_lists, own_stand, row_at, stride
 
 
-class Plain:
-    """A house at its begin: each hand at row 0 with noughts, no letters, nothing told."""
+class Plain(House):
+    """A house of one make at its begin."""
 
     def __init__(self, make):
+        House.__init__(self, make)
         self.make = make
-        self.stands = dict([(hand[0], begin_of(make, hand[0])) for hand in make[2]])
-        self.between = dict([(channel[0], []) for channel in make[1]])
-        self.tellings = dict([(hand[0], []) for hand in make[2]])
-        self.counts = dict([(hand[0], 0) for hand in make[2]])
 
     def step(self, h):
         """Let a hand do its next row; False where nothing is done."""
@@ -21,22 +19,6 @@ class Plain:
         self.stands[h] = behind
         self.counts[h] = self.counts[h] + 1
         return True
-
-    def stand(self, h):
-        """The number of the row that is next for a hand, and the values of its boxes."""
-        return own_stand(self.stands[h])
-
-    def told(self, h):
-        """What a hand told so far."""
-        return list(self.tellings[h])
-
-    def letters(self, c):
-        """The letters in a channel, the one that is taken next first."""
-        return list(self.between[c])
-
-    def count(self, h):
-        """How many rows a hand did."""
-        return self.counts[h]
 
     def weave(self, hands):
         """Let hands do one step each, in their order; how many rows were done."""

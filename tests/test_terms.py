@@ -119,43 +119,43 @@ def with_inner(term):
     ]
 
 
-def random_of(source, kind, boxes, depth):
+def random_of(source, kind, boxes, depth, kinds=KINDS):
     """A term of a kind, of any form, with at most so many terms over one another."""
     forms = ["make", "make", "box"] if depth <= 1 else ["make", "box", "op", "get", "case", "if"]
     form = source.choice(forms)
     if form == "box":
         fitting = [x for x, each in boxes.items() if each == kind]
-        return ("box", source.choice(fitting)) if fitting else random_of(source, kind, boxes, depth)
+        return ("box", source.choice(fitting)) if fitting else random_of(source, kind, boxes, depth, kinds)
     if form == "op" and kind == "num":
-        inner = [random_of(source, "num", boxes, depth - 1) for _ in range(2)]
+        inner = [random_of(source, "num", boxes, depth - 1, kinds) for _ in range(2)]
         return ("op", source.choice("+-*<="), inner[0], inner[1])
     if form == "get":
-        fields = [(name, f) for name, sort, parts in KINDS if sort == "rec" for f, each in parts if each == kind]
+        fields = [(name, f) for name, sort, parts in kinds if sort == "rec" for f, each in parts if each == kind]
         if fields:
             name, f = source.choice(fields)
-            return ("get", random_of(source, name, boxes, depth - 1), f)
+            return ("get", random_of(source, name, boxes, depth - 1, kinds), f)
     if form == "case":
-        name, sort, parts = source.choice([each for each in KINDS if each[1] == "alt"])
+        name, sort, parts = source.choice([each for each in kinds if each[1] == "alt"])
         arms = []
         for tag, inner in source.sample(parts, len(parts)):
             x = source.choice([each for each in ("q", "r", "s", "t", "u", "v") if each not in boxes])
-            arms.append((tag, x, random_of(source, kind, {**boxes, x: inner}, depth - 1)))
-        return ("case", random_of(source, name, boxes, depth - 1), tuple(arms))
+            arms.append((tag, x, random_of(source, kind, {**boxes, x: inner}, depth - 1, kinds)))
+        return ("case", random_of(source, name, boxes, depth - 1, kinds), tuple(arms))
     if form == "if":
-        inner = [random_of(source, each, boxes, depth - 1) for each in ("num", kind, kind)]
+        inner = [random_of(source, each, boxes, depth - 1, kinds) for each in ("num", kind, kind)]
         return ("if", inner[0], inner[1], inner[2])
-    return random_made(source, kind, boxes, depth)
+    return random_made(source, kind, boxes, depth, kinds)
 
 
-def random_made(source, kind, boxes, depth):
+def random_made(source, kind, boxes, depth, kinds=KINDS):
     """A number, a rec or a tag of a kind."""
     if kind == "num":
         return ("num", source.choice([0, 1, 2, WIDE - 1, source.randrange(WIDE)]))
-    sort, parts = [each[1:] for each in KINDS if each[0] == kind][0]
+    sort, parts = [each[1:] for each in kinds if each[0] == kind][0]
     if sort == "rec":
-        return ("rec", kind, tuple(random_of(source, inner, boxes, depth - 1) for f, inner in parts))
+        return ("rec", kind, tuple(random_of(source, inner, boxes, depth - 1, kinds) for f, inner in parts))
     tag, inner = source.choice(parts)
-    return ("tag", kind, tag, random_of(source, inner, boxes, depth - 1))
+    return ("tag", kind, tag, random_of(source, inner, boxes, depth - 1, kinds))
 
 
 def random_terms(seed, many):
