@@ -29,6 +29,14 @@ class Mixed(House):
         """The number of the make that a hand follows, 1 or 2."""
         return self.sides[h]
 
+    def make_for(self, h):
+        """The make that a hand follows."""
+        return make_by(self.over, self.sides[h])
+
+    def row_of(self, h):
+        """The row that a hand does next."""
+        return row_at(self.make_for(h), h, self.stands[h])
+
     def deed(self, word, h):
         """Do a deed by its word; False where nothing is done."""
         if word == "step":
@@ -39,9 +47,9 @@ class Mixed(House):
 
     def step(self, h):
         """Let a hand do its next row; False where nothing is done."""
-        make = self.over.first if self.sides[h] == FIRST else self.over.second
+        make = self.make_for(h)
         now = self.stands[h]
-        row = row_at(make, h, now)
+        row = self.row_of(h)
         behind = stride(make, h, now, self.letter_for(h, row))
         if behind is None:
             return False
@@ -59,9 +67,7 @@ class Mixed(House):
         # An elder hand never looks into a letter of the second make.
         if letter is None or letter[0] > self.sides[h]:
             return None
-        if letter[0] < self.sides[h]:
-            return letter_over(self.over, row[2], letter[1])
-        return letter[1]
+        return letter[1] if self.sides[h] == FIRST else as_second(self.over, row[2], letter)
 
     def take(self, h, c):
         """Take the first letter out of a channel, and keep it as it was for going back."""
@@ -79,14 +85,18 @@ class Mixed(House):
 
     def change(self, h):
         """Change a hand over; False where it is changed already, or its stand can't be brought over."""
-        now = self.stands[h]
-        behind = None if self.sides[h] == SECOND else brought(self.over, h, now)
+        behind = self.stand_over(h)
         if behind is None:
             return False
-        self.befores[h] = (now, self.counts[h], dict([(c, []) for c in channels_to(self.over.first, h)]))
+        taken = dict([(c, []) for c in channels_to(self.over.first, h)])
+        self.befores[h] = (self.stands[h], self.counts[h], taken)
         self.sides[h] = SECOND
         self.stands[h] = behind
         return True
+
+    def stand_over(self, h):
+        """The stand of an elder hand brought over; None where it can't be, or the hand is changed."""
+        return None if self.sides[h] == SECOND else brought(self.over, h, self.stands[h])
 
     def back(self, h):
         """Let a hand go back; False where it is elder, or has sent or told since its changing over."""
@@ -100,6 +110,16 @@ class Mixed(House):
         self.counts[h] = before[1]
         self.befores[h] = None
         return True
+
+
+def make_by(over, number):
+    """The make of an over by its number."""
+    return over.first if number == FIRST else over.second
+
+
+def as_second(over, c, letter):
+    """The value of a letter in a channel as the second make has it."""
+    return letter_over(over, c, letter[1]) if letter[0] == FIRST else letter[1]
 
 
 def same(one, other):

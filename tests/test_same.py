@@ -3,6 +3,7 @@
 from swapstride.mixed import Mixed, same
 from swapstride.overs import Over
 from swapstride.reader import read
+from swapstride.words import WIDE
 from tests.test_mixed import FIRST, SECOND, Checks, all_of, do, new, old, runs, trio, twin_of
 
 # A make over to itself, of which one may be changed at either of two places and stand alike behind it.
@@ -24,6 +25,33 @@ send g 0
 tell 3
 go 1""")
 
+# Deeds that come to the same house of trio by other ways.
+BY_OTHER_DEEDS = [
+    ("feed*5 one*5 two*4", "feed*4 one two? one*3 two*3 two? feed one two"),
+    ("feed*5 one! two!", "feed feed*4 two! one!"),
+    ("feed*5 one*5 two", "feed*5 one*5 two! two two*2 two? two"),
+    ("feed*5 one! one*5 two!", "two! feed*5 two? one! one one? two! one! one*5"),
+    ("feed*5 one*5 two! two*3", "feed*5 one*4 two! two two? two! two*3 one")]
+
+# Behind these deeds c has new(2, 9, 5) and e (1, 1) and (2, 5); each of the others is unlike that in one channel.
+LETTERS = "feed*10 one*5 one! one*5 two two!"
+OTHER_LETTERS = [
+    ("c", []), ("c", [new(9, 9, 9)]), ("c", [new(2, 9, 5)] * 2), ("e", [(1, 1)]), ("e", [(1, 1), (1, 5)]),
+    ("e", [(2, 1), (2, 5)]), ("e", [(2, 5), (1, 1)]), ("e", [(1, 1), (2, 6)]), ("d", [(1, 0)]), ("s", [(2, 0)])]
+
+# Behind these deeds two may go back, having taken letters of both makes.
+TAKEN = "feed*10 one*5 one! one*5 two! two*4"
+
+
+def other_befores(stand, count, taken):
+    """What going back of two behind TAKEN would need otherwise, each unlike that in one thing."""
+    return [((1, stand[1]), count, taken), ((0, {**stand[1], "q": 1}), count, taken),
+            ((0, {**stand[1], "p": ("pt", (0, 1))}), count, taken), (stand, 1, taken), (stand, WIDE, taken),
+            (stand, count, {**taken, "e": []}), (stand, count, {**taken, "e": [(2, 1)]}),
+            (stand, count, {**taken, "e": [(1, 2)]}), (stand, count, {**taken, "c": taken["c"][::-1]}),
+            (stand, count, {"c": taken["c"][:1], "e": taken["e"]}),
+            (stand, count, {"c": taken["c"], "e": taken["e"] * 2}), None]
+
 
 class Same(Checks):
     def stair(self, text):
@@ -41,12 +69,7 @@ class Same(Checks):
         self.assertEqual((all_of(one), all_of(other)), before)
 
     def test_by_other_deeds(self):
-        for one, other in [
-                ("feed*5 one*5 two*4", "feed*4 one two? one*3 two*3 two? feed one two"),
-                ("feed*5 one! two!", "feed feed*4 two! one!"),
-                ("feed*5 one*5 two", "feed*5 one*5 two! two two*2 two? two"),
-                ("feed*5 one! one*5 two!", "two! feed*5 two? one! one one? two! one! one*5"),
-                ("feed*5 one*5 two! two*3", "feed*5 one*4 two! two two? two! two*3 one")]:
+        for one, other in BY_OTHER_DEEDS:
             houses = [trio(), trio()]
             for house, text in zip(houses, [one, other]):
                 do(house, text)
@@ -72,7 +95,7 @@ class Same(Checks):
         def pair():
             houses = [trio(), trio()]
             for house in houses:
-                self.done(house, "feed*10 one*5 one! one*5 two two!")
+                self.done(house, LETTERS)
             return houses
         one, other = pair()
         self.alike(one, other, True)
@@ -82,9 +105,7 @@ class Same(Checks):
             one, other = pair()
             other.stands["feed"] = stand
             self.alike(one, other, False)
-        for c, letters in [("c", []), ("c", [new(9, 9, 9)]), ("c", [(1, ("pt", (2, 9, 5)))]), ("e", [(1, 1)]),
-                           ("e", [(1, 1), (1, 5)]), ("e", [(2, 1), (2, 5)]), ("e", [(2, 5), (1, 1)]),
-                           ("e", [(1, 1), (2, 6)]), ("d", [(1, 0)])]:
+        for c, letters in OTHER_LETTERS + [("c", [(1, ("pt", (2, 9, 5)))])]:
             one, other = pair()
             other.between[c] = list(letters)
             self.alike(one, other, False)
@@ -215,14 +236,12 @@ class Same(Checks):
         """Each by itself, put into a house by hand; all that is told stays the same."""
         def changed():
             house = trio()
-            self.done(house, "feed*10 one*5 one! one*5 two! two*4")
+            self.done(house, TAKEN)
             return house
         stand, count, taken = changed().befores["two"]
         self.assertEqual((stand, count), ((0, {"p": ("pt", (0, 0)), "q": 0}), 0))
         self.assertEqual(taken, {"c": [old(1, 1), new(2, 9, 5)], "e": [(1, 1)]})
-        for other in [((1, stand[1]), count, taken), ((0, {**stand[1], "q": 1}), count, taken), (stand, 1, taken),
-                      (stand, count, {**taken, "e": []}), (stand, count, {**taken, "e": [(2, 1)]}),
-                      (stand, count, {**taken, "e": [(1, 2)]}), (stand, count, {**taken, "c": taken["c"][::-1]}), None]:
+        for other in other_befores(stand, count, taken):
             house = changed()
             house.befores["two"] = other
             self.assertEqual(all_of(house), all_of(changed()))
