@@ -55,7 +55,14 @@ def arm_text(arm):
 
 def term_of(text):
     """The term that a text writes, or BadText at 0."""
-    return term_from(tree_of(text))
+    return term_with(text, ())
+
+
+def term_with(text, more):
+    """The term that a text writes where some more words are boxes beside the names."""
+    trees = trees_of(text)
+    need(len(trees) == 1)
+    return term_from(trees[0], more)
 
 
 def need(holds):
@@ -64,13 +71,13 @@ def need(holds):
         raise BadText(0)
 
 
-def tree_of(text):
-    """The tree of a text: its one word, or the list of what stands in its one outermost bracket."""
+def trees_of(text):
+    """The trees of a text: its words, and for each outermost bracket the list of what stands in it."""
     pile = [[]]
     for word in text.split(" "):
         put_word(pile, word)
-    need(len(pile) == 1 and len(pile[0]) == 1)
-    return pile[0][0]
+    need(len(pile) == 1)
+    return pile[0]
 
 
 def put_word(pile, word):
@@ -96,34 +103,41 @@ def close_brackets(pile, many):
         many = many - 1
 
 
-def term_from(tree):
+def term_from(tree, more):
     """The term of a tree."""
     if isinstance(tree, str):
-        return leaf_from(tree)
+        return leaf_from(tree, more)
     head = tree[0]
     if head in OPS:
         need(len(tree) == 3)
-        return ("op", head, term_from(tree[1]), term_from(tree[2]))
+        return ("op", head) + terms_from(tree[1:], more)
     if head == "rec":
         need(len(tree) >= 2)
-        return ("rec", name_from(tree[1]), tuple([term_from(each) for each in tree[2:]]))
+        return ("rec", name_from(tree[1]), terms_from(tree[2:], more))
     if head == "get":
         need(len(tree) == 3)
-        return ("get", term_from(tree[1]), name_from(tree[2]))
+        return ("get", term_from(tree[1], more), name_from(tree[2]))
     if head == "tag":
         need(len(tree) == 4)
-        return ("tag", name_from(tree[1]), name_from(tree[2]), term_from(tree[3]))
+        return ("tag", name_from(tree[1]), name_from(tree[2]), term_from(tree[3], more))
     if head == "case":
         need(3 <= len(tree) <= 2 + MOST_ARMS)
-        return ("case", term_from(tree[1]), tuple([arm_from(each) for each in tree[2:]]))
+        return ("case", term_from(tree[1], more), tuple([arm_from(each, more) for each in tree[2:]]))
     need(head == "if" and len(tree) == 4)
-    return ("if", term_from(tree[1]), term_from(tree[2]), term_from(tree[3]))
+    return ("if",) + terms_from(tree[1:], more)
 
 
-def leaf_from(word):
+def terms_from(trees, more):
+    """The term of each of some trees."""
+    return tuple([term_from(tree, more) for tree in trees])
+
+
+def leaf_from(word, more):
     """The term of a word by itself."""
     if is_number(word):
         return ("num", int(word))
+    if word in more:
+        return ("box", word)
     return ("box", name_from(word))
 
 
@@ -133,7 +147,7 @@ def name_from(tree):
     return tree
 
 
-def arm_from(tree):
+def arm_from(tree, more):
     """The arm of a case that a tree is."""
     need(isinstance(tree, list) and len(tree) == 3)
-    return (name_from(tree[0]), name_from(tree[1]), term_from(tree[2]))
+    return (name_from(tree[0]), name_from(tree[1]), term_from(tree[2], more))

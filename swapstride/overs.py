@@ -38,10 +38,15 @@ def look_fit(first, second, ways):
             raise NoFit(f"the kind of the channel {c} doesn't go over to the second make's")
 
 
+def is_place(over, h, row):
+    """Whether a row of a hand of the first make is a take whose place has a way, where it may be changed over."""
+    return row[0] == "take" and (h, row[1]) in over.places
+
+
 def brought(over, h, stand):
     """A stand of a hand of the first make brought over, None where it can't be."""
     row = row_at(over.first, h, stand)
-    if row[0] != "take" or (h, row[1]) not in over.places:
+    if not is_place(over, h, row):
         return None
     way = over.places[(h, row[1])]
     boxes = turned_boxes(over.first, over.second, over.ways, hand_of(over.first, h)[1], stand[1])

@@ -40,14 +40,18 @@ def look_ends(first, second, K, K2):
 
 def look_form(first, K, how):
     """Refuse a how that isn't of the form for a kind's sort, or hasn't just the kind's tags in their order."""
-    # A term begins with a word, tags with a tuple.
-    is_term = len(how) > 0 and isinstance(how[0], str)
     if sort_of(first[0], K) == "rec":
-        right = is_term
+        right = is_term(how)
     else:
-        right = not is_term and [each[0] for each in how] == [part[0] for part in parts_of(first[0], K)]
+        right = not is_term(how) and [each[0] for each in how] == [part[0] for part in parts_of(first[0], K)]
     if not right:
         raise Lacks(f"the way of {K} hasn't the form for its sort, or not just its tags")
+
+
+def is_term(how):
+    """Whether a how is a term, the form for recs, and not tags with a term each, that for alts."""
+    # A term begins with a word, tags with a tuple.
+    return len(how) > 0 and isinstance(how[0], str)
 
 
 def look_terms(first, second, ways, K):
