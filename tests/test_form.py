@@ -4,6 +4,7 @@ import pathlib
 import unittest
 
 from tests.form import PACKAGE, defined_in, drawn_from, findings, methods_and_values, plain_file_name
+from tests.form_more import more_findings
 
 FOLDER = pathlib.Path(__file__).resolve().parent.parent / PACKAGE
 FILES = {path.stem: path.read_text(encoding="utf-8") for path in sorted(FOLDER.glob("*.py"))}
@@ -75,6 +76,60 @@ BAD = [
     ("def f(a):\n    return 2 ** a\n", "L27"),
 ]
 
+# The same of what is found by how things are used.
+MORE_BAD = [
+    ("def f(a=[]):\n    pass\n", "L4"),
+    ("def f(a):\n    return f'{a!s}'\n", "L7"),
+    ("def f(a):\n    return g(lambda b: a, lambda b: b)\n", "L13"),
+    ("A = [[1], [2]]\n", "L15"),
+    ("A = {'a': [1]}\n", "L15"),
+    ("A = [1]\ndef f(a):\n    A.append(a)\n", "L15"),
+    ("A = [1]\ndef f(a):\n    A[0] = a\n", "L15"),
+    ("A = [1]\ndef f(a):\n    return A\n", "L15"),
+    ("A = {'a': 1}\ndef f(a):\n    g(A)\n", "L15"),
+    ("def f(a):\n    return a.f_back\n", "L17"),
+    ("def f(a):\n    return [Twice]\n", "L18"),
+    ("def f(a):\n    b = Twice\n", "L18"),
+    ("def f(a):\n    return g(Twice)\n", "L18"),
+    ("def f(a):\n    Twice.at = a\n", "L18"),
+    ("class A(AttributeError):\n    pass\n", "L18"),
+    ("class A:\n    def f(self):\n        pass\n    def f(self):\n        pass\n", "L18"),
+    ("def f(a):\n    raise a\n", "L19"),
+    ("def f(a):\n    raise Twice\n", "L19"),
+    ("def f(a):\n    raise Twice('') from Twice('')\n", "L19"),
+    ("def f(a):\n    try:\n        g(a)\n    except ValueError:\n        pass\n", "L19"),
+    ("def f(a):\n    try:\n        b = int(a) * 2\n    except ValueError:\n        pass\n", "L19"),
+    ("def f(a):\n    try:\n        b = g(a)[0]\n    except IndexError:\n        pass\n", "L19"),
+    ("def f(a):\n    try:\n        b = g(a)\n    except (Twice, LookupError):\n        pass\n", "L19"),
+    ("def f(a):\n    b = len\n", "L22"),
+    ("def f(a):\n    return g(sorted)\n", "L22"),
+    ("def f(a):\n    return isinstance(a, set)\n", "L22"),
+    ("def f(a):\n    return sorted(a, key=list)\n", "L22"),
+    ("def f(a):\n    for b in a:\n        a.append(b)\n", "L23"),
+    ("def f(a):\n    for b in a.items():\n        a[b] = 1\n", "L23"),
+    ("def f(a):\n    for k, b in enumerate(a.b):\n        a.b[k] = b\n", "L23"),
+    ("def f(a):\n    for b in a:\n        a += [b]\n", "L23"),
+    ("def f(a):\n    b = {1, a}\n", "L24"),
+    ("class A:\n    def sort(self):\n        pass\n", "L26"),
+    ("class A:\n    def f(self):\n        self.items = 1\n", "L26"),
+    ("class A:\n    def f(self):\n        self.args = 1\n", "L26"),
+    ("class A:\n    def __init__(self):\n        return None\n", "L28"),
+    ("class A:\n    def __len__(self):\n        self.a = 1\n        return 1\n", "L28"),
+]
+
+# What is within the rules, and near to what is not.
+GOOD = [
+    "A = [1]\ndef f(a):\n    return A[0] + len(A) + g(list(A))\n",
+    "A = {'a': 1}\ndef f(a):\n    return A.get(a) if a in A else A['a']\n",
+    "def f(a):\n    try:\n        return int(a)\n    except ValueError:\n        return 0\n",
+    "def f(a):\n    try:\n        return a[0]\n    except IndexError:\n        return 0\n",
+    "def f(a):\n    try:\n        return g(a)\n    except Twice as e:\n        raise NoName('') from e\n",
+    "def f(a):\n    for b in list(a):\n        a.append(b)\n",
+    "def f(a):\n    for b in a[0]:\n        a[1].append(b)\n",
+    "def f(a):\n    return sorted(a, key=len) if isinstance(a, (int, str)) else a in {1, 2, 3}\n",
+    "class A(B):\n    def __init__(self):\n        B.__init__(self)\n        self.count = 1\n",
+]
+
 
 class Form(unittest.TestCase):
     def test_nothing_but_plain_files_lies_in_the_folder(self):
@@ -85,7 +140,7 @@ class Form(unittest.TestCase):
     def test_each_file_keeps_to_the_rules(self):
         for stem, text in FILES.items():
             with self.subTest(file=stem):
-                self.assertEqual(findings(text), [])
+                self.assertEqual(findings(text) + more_findings(text), [])
 
     def test_each_name_is_drawn_from_the_file_that_defines_it(self):
         for stem, text in FILES.items():
@@ -114,6 +169,16 @@ class Finder(unittest.TestCase):
         for text, rule in BAD:
             with self.subTest(text=text[:60]):
                 self.assertIn(rule, [found for found, row in findings(text)])
+
+    def test_each_bad_use_is_found(self):
+        for text, rule in MORE_BAD:
+            with self.subTest(text=text[:60]):
+                self.assertIn(rule, [found for found, row in more_findings(text)])
+
+    def test_good_uses_are_not_found(self):
+        for text in GOOD:
+            with self.subTest(text=text[:60]):
+                self.assertEqual(more_findings(text), [])
 
     def test_bad_file_names_are_found(self):
         for name in ["A.py", "a.txt", "test_a.py", "site.py", "len.py", "enum.py", "1a.py", "a-b.py", "tests.py"]:

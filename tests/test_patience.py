@@ -233,6 +233,13 @@ class Patience(Base):
         self.waits(over_of("take a c n | take b c n | end", "b"), 1)
         self.waits(over_of("take a c n | take b c n | take d c n | tell 1 | go 0", "a"), 4)
 
+    def test_a_take_into_a_box_named_like_an_end(self):
+        first = read("channel c h h num\nhand h\nbox end num\ntake end c end\ntake a c end\nend")
+        self.waits(Over(first, read("channel c h h num\nhand h\nend"), {}, {}), 2)
+        first = read("channel end h h num\nhand h\nbox end num\ntake end end end\ngo 0")
+        self.assertEqual(sorted(self.is_late(Over(first, read("channel end h h num\nhand h\nend"), {}, {}))), [0, 1])
+        self.waits(Over(first, first, {}, {}), 1)
+
     def test_each_other_row_is_one(self):
         for row in ["set n 1", "send c n", "tell n", "go 1", "if n 1"]:
             self.waits(over_of(f"{row} | end"), 1)

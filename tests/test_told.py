@@ -9,7 +9,7 @@ from swapstride.errors import BadText, SwapError
 from swapstride.overs import Over
 from swapstride.told import read_told, told_shown
 from tests.chance import right_over
-from tests.test_bricks import NO_TERMS, PAIRS, WORD_NAMES, names, one_sign_off
+from tests.test_bricks import NO_TERMS, PAIRS, WORD_NAMES, names, one_sign_off, random_term
 from tests.test_overs import fields_of
 
 A = ("box", "a")
@@ -103,37 +103,21 @@ def with_it(tree):
     return tuple(with_it(each) for each in tree) if isinstance(tree, tuple) else tree
 
 
-def random_term(source, depth):
+def random_it(source, depth):
     """A term of any form, `it` being a box like others."""
-    form = source.choice(["num", "box", "op", "rec", "get", "tag", "case", "if"] if depth > 1 else ["num", "box", "it"])
-    if form in ("num", "it"):
-        return IT if form == "it" else ("num", source.choice([0, 1, 10, 4294967296, 9999999999]))
-    if form == "box":
-        return ("box", source.choice([names(source), "it"]))
-    if form == "op":
-        return ("op", source.choice("+-*<="), random_term(source, depth - 1), random_term(source, depth - 1))
-    if form == "rec":
-        return ("rec", names(source), tuple(random_term(source, depth - 1) for _ in range(source.randrange(5))))
-    if form == "get":
-        return ("get", random_term(source, depth - 1), names(source))
-    if form == "tag":
-        return ("tag", names(source), names(source), random_term(source, depth - 1))
-    if form == "case":
-        arms = [(names(source), names(source), random_term(source, depth - 1)) for _ in range(source.randint(1, 4))]
-        return ("case", random_term(source, depth - 1), tuple(arms))
-    return ("if",) + tuple(random_term(source, depth - 1) for _ in range(3))
+    return with_it(random_term(source, depth))
 
 
 def random_told(source):
     """Told ways of the forms told, seldom right ones."""
     ways, places = {}, {}
     for _ in range(source.randrange(6)):
-        how = random_term(source, 3)
+        how = random_it(source, 3)
         if source.randrange(2):
-            how = tuple((names(source), random_term(source, 3)) for _ in range(source.randint(1, 4)))
+            how = tuple((names(source), random_it(source, 3)) for _ in range(source.randint(1, 4)))
         ways[names(source)] = (source.choice(["num", names(source)]), how)
     for _ in range(source.randrange(6)):
-        sets = tuple((names(source), random_term(source, 3)) for _ in range(source.randrange(5)))
+        sets = tuple((names(source), random_it(source, 3)) for _ in range(source.randrange(5)))
         places[(names(source), names(source))] = (names(source), sets)
     return ways, places
 
